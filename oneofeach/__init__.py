@@ -1,0 +1,1 @@
+"""Oneofeach: censuses of finite structures, complete and without repetition."""

@@ -1,0 +1,57 @@
+"""The interface in DOC.md: names, parameters, and the files that define them."""
+
+import importlib
+import inspect
+import unittest
+
+FUNCTIONS = {
+    "sentences": ["atoms_of(formula)"],
+    "places": ["places(relation, point)"],
+    "structures": [
+        "has_shape(kind, structure)", "value(kind, structure, name, points)", "part(kind, structure, points)",
+        "holds(kind, structure, sentence)", "is_of_kind(kind, structure)", "count_layers(kind, point)",
+        "layers(kind, point)", "extensions(kind, structure)",
+    ],
+    "renamings": [
+        "is_renaming(names, size)", "inverted(renaming)", "followed(first, second)",
+        "renamed(kind, structure, renaming)", "is_symmetry(kind, structure, renaming)",
+    ],
+}
+CLASSES = {
+    "errors": [
+        "SyntaxFault(place)", "UnknownName(name)", "DuplicateName(name)", "WrongArity(name)",
+        "TooManyLayers(count)", "InvalidPaper(line)",
+    ],
+    "kinds": ["Kind(relations, sentences)"],
+}
+
+
+def found_in(name, listed):
+    """What stands in the module under the name that is listed with its parameters."""
+    return getattr(importlib.import_module("oneofeach." + name), listed.partition("(")[0])
+
+
+class InterfaceTest(unittest.TestCase):
+
+    def test_functions(self):
+        for name, all_listed in FUNCTIONS.items():
+            for listed in all_listed:
+                with self.subTest(module=name, listed=listed):
+                    found = found_in(name, listed)
+                    self.assertTrue(inspect.isfunction(found))
+                    self.assertEqual(found.__module__, "oneofeach." + name)
+                    self.assertEqual(found.__name__ + str(inspect.signature(found)), listed)
+
+    def test_classes(self):
+        for name, all_listed in CLASSES.items():
+            for listed in all_listed:
+                with self.subTest(module=name, listed=listed):
+                    found = found_in(name, listed)
+                    self.assertTrue(inspect.isclass(found))
+                    self.assertEqual(found.__module__, "oneofeach." + name)
+                    self.assertEqual(found.__name__ + str(inspect.signature(found)), listed)
+                    self.assertIn("__init__", vars(found))
+
+
+if __name__ == "__main__":
+    unittest.main()
