@@ -38,14 +38,25 @@ def value(kind, structure, name, points):
     return structure[point][index][places(relation, point).index(place)]
 
 
+def tables_of(kind, structure):
+    """For each relation a dict of its values, with all orders that the points may have as keys."""
+    tables = []
+    for index, relation in enumerate(kind.relations):
+        table = {}
+        for point, layer in enumerate(structure):
+            for place, number in zip(places(relation, point), layer[index]):
+                for points in orders_of(relation, place):
+                    table[points] = number
+        tables.append(table)
+    return tables
+
+
 def all_values(kind, structure):
     """A dict of all values, with keys (name, points) for all orders that the points may have."""
     known = {}
-    for point, layer in enumerate(structure):
-        for relation, numbers in zip(kind.relations, layer):
-            for place, number in zip(places(relation, point), numbers):
-                for points in orders_of(relation, place):
-                    known[(relation[0], points)] = number
+    for relation, table in zip(kind.relations, tables_of(kind, structure)):
+        for points, number in table.items():
+            known[(relation[0], points)] = number
     return known
 
 
@@ -58,17 +69,33 @@ def orders_of(relation, place):
 
 def part(kind, structure, points):
     """The part of the structure on a list of different points."""
-    known = all_values(kind, structure)
-    return tuple([layer_on(kind, known, points, last) for last in range(len(points))])
+    return part_in(tables_of(kind, structure), places_below(kind, len(points)), points)
 
 
-def layer_on(kind, known, points, last):
-    """The layer at point last of the part on the points."""
-    layer = []
-    for relation in kind.relations:
-        chosen = [tuple([points[index] for index in place]) for place in places(relation, last)]
-        layer.append(tuple([known[(relation[0], place)] for place in chosen]))
-    return tuple(layer)
+def places_below(kind, size):
+    """For each point below the size, the list of the places of each relation."""
+    return [[places(relation, point) for relation in kind.relations] for point in range(size)]
+
+
+def part_in(tables, listed, points):
+    """The structure with the listed places whose point j is the j-th of the points."""
+    return tuple([layer_in(tables, at, points) for at in listed])
+
+
+def layer_in(tables, at, points):
+    """The layer with the listed places of one point, where point j is the j-th of the points."""
+    return tuple([numbers_in(table, listed, points) for table, listed in zip(tables, at)])
+
+
+def numbers_in(table, listed, points):
+    """The values of the table at the listed places, where point j is the j-th of the points."""
+    arity = len(listed[0]) if listed else 0
+    # One row for each arity: this is where most of the time of a census goes.
+    if arity == 1:
+        return tuple([table[(points[place[0]],)] for place in listed])
+    if arity == 2:
+        return tuple([table[(points[first], points[second])] for first, second in listed])
+    return tuple([table[(points[first], points[second], points[third])] for first, second, third in listed])
 
 
 def holds(kind, structure, sentence):
@@ -124,6 +151,12 @@ def refuse_too_many(kind, point):
     count = count_layers(kind, point)
     if count > MOST_LAYERS:
         raise TooManyLayers(count)
+
+
+def refuse_too_many_below(kind, size):
+    """Raise TooManyLayers for the first point below the size that has too many layers."""
+    for point in range(size):
+        refuse_too_many(kind, point)
 
 
 def values_at(kind, point):

@@ -1,5 +1,6 @@
 """What DOC.md says, word by word and without haste, for the tests to compare with."""
 
+from functools import lru_cache
 from itertools import permutations, product
 
 from oneofeach.kinds import Kind
@@ -7,13 +8,18 @@ from oneofeach.kinds import Kind
 
 def listed_places(relation, point):
     """Point 2.1, by going through all tuples of points."""
-    name, arity, values, symmetric = relation
+    return list(kept_places(relation[1], relation[3], point))
+
+
+@lru_cache(maxsize=None)
+def kept_places(arity, symmetric, point):
+    """The same, kept for the next time."""
     found = []
     for place in product(range(point + 1), repeat=arity):
         if len(set(place)) == arity and point in place:
             if not symmetric or list(place) == sorted(place):
                 found.append(place)
-    return sorted(found)
+    return tuple(sorted(found))
 
 
 def listed_values(kind, structure):

@@ -16,6 +16,16 @@ FUNCTIONS = {
         "is_renaming(names, size)", "inverted(renaming)", "followed(first, second)",
         "renamed(kind, structure, renaming)", "is_symmetry(kind, structure, renaming)",
     ],
+    "least": [
+        "plain_least(kind, structure)", "least(kind, structure)", "is_least(kind, structure)",
+        "symmetries(kind, structure)", "chain(kind, structure)",
+    ],
+    "group": [
+        "order(lists)", "positions(lists, renaming)", "symmetry_number(lists, renaming)", "symmetry_at(lists, number)",
+    ],
+    "refine": ["cells(kind, structure)"],
+    "matching": ["match(kind, one, other)"],
+    "counting": ["orbit_count(relations, size)"],
 }
 CLASSES = {
     "errors": [

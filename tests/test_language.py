@@ -53,6 +53,22 @@ def nodes(text):
     return list(ast.walk(ast.parse(text)))
 
 
+def consumers(text):
+    """Pairs of a call and what stands around it: the name of a call, the kind of statement or comprehension."""
+    found = []
+    for node in nodes(text):
+        for field, held in ast.iter_fields(node):
+            for child in held if isinstance(held, list) else [held]:
+                if isinstance(child, ast.Call):
+                    around = type(node).__name__ + "." + field
+                    if isinstance(node, ast.Call) and isinstance(node.func, ast.Name) and child in node.args[:1]:
+                        around = node.func.id
+                    if isinstance(node, ast.Call) and node.func is not child and around == "Call.args":
+                        around = ast.unparse(node.func)
+                    found.append((child, around))
+    return found
+
+
 def bound_names(text):
     """The names of variables, parameters and functions that a text binds (no methods, no attributes)."""
     found = []
@@ -154,6 +170,27 @@ class LanguageTest(unittest.TestCase):
             for node in nodes(text):
                 if isinstance(node, ast.Call) and isinstance(node.func, ast.Attribute):
                     self.assertIn(node.func.attr, METHODS | own, name)
+
+    def test_what_is_iterated_at_once(self):
+        # L23 allows some places more, of which the package has no need.
+        loops = {"For.iter", "comprehension.iter"}
+        takers = loops | {"list", "tuple", "dict", "sorted", "sum", "any", "all", "enumerate", "zip"}
+        allowed = {name: takers for name in ["zip", "enumerate", "range", "map", "items", "keys", "values"]}
+        allowed["reversed"] = takers
+        allowed["range"] = takers | {"reversed", "permutations", "combinations", "product", "min", "max", "len"}
+        allowed.update({name: takers - {"dict", "enumerate", "zip"} for name in LIBRARY["itertools"]})
+        for name, text in texts().items():
+            for call, around in consumers(text):
+                called = call.func.attr if isinstance(call.func, ast.Attribute) else call.func.id
+                if called in allowed:
+                    self.assertIn(around, allowed[called], (name, called))
+
+    def test_sets_only_where_they_may_stand(self):
+        for name, text in texts().items():
+            kept = {"Assign.value", "sorted", "len"}
+            for call, around in consumers(text):
+                if isinstance(call.func, ast.Name) and call.func.id == "set":
+                    self.assertIn(around, kept, name)
 
     def test_no_annotations_decorators_and_other_statements(self):
         banned = (

@@ -5,9 +5,14 @@ import random
 import unittest
 
 from definitions import BLOCK, EDGE, belongs, sample_kinds, satisfies, says, some_structure
+from oneofeach.counting import orbit_count
 from oneofeach.errors import TooManyLayers
+from oneofeach.group import order, positions, symmetry_at, symmetry_number
 from oneofeach.kinds import Kind
+from oneofeach.least import chain, is_least, least, plain_least, symmetries
+from oneofeach.matching import match
 from oneofeach.places import places
+from oneofeach.refine import cells
 from oneofeach.renamings import followed, inverted, is_renaming, is_symmetry, renamed
 from oneofeach.structures import (
     count_layers, extensions, has_shape, holds, is_of_kind, layers, part, value,
@@ -25,6 +30,7 @@ def calls(kind, chance):
         (is_renaming, [(0, 2, 1), 3]), (inverted, [(1, 2, 0)]), (followed, [(1, 2, 0), (0, 2, 1)]),
         (renamed, [kind, structure, (1, 2, 0)]), (is_symmetry, [kind, structure, (1, 2, 0)]),
     ]
+    found.extend(calls_of_classes(kind, structure))
     for name, arity, values, symmetric in kind.relations:
         found.append((places, [(name, arity, values, symmetric), 3]))
         found.append((value, [kind, structure, name, (2, 0, 1)[:arity]]))
@@ -34,6 +40,28 @@ def calls(kind, chance):
             if belongs(kind, structure[:point]):
                 found.append((extensions, [kind, structure[:point]]))
     return found
+
+
+def calls_of_classes(kind, structure):
+    """Functions about least structures, symmetries, cells, matches and counts with arguments."""
+    lists = [[(0, 1, 2), (1, 2, 0), (2, 1, 0)], [(0, 1, 2), (0, 2, 1)], [(0, 1, 2)]]
+    return [
+        (plain_least, [kind, structure]), (least, [kind, structure]), (is_least, [kind, structure]),
+        (symmetries, [kind, structure]), (chain, [kind, structure]), (cells, [kind, structure]),
+        (match, [kind, structure, renamed(kind, structure, (1, 2, 0))]), (orbit_count, [kind.relations, 3]),
+        (order, [lists]), (positions, [lists, (2, 0, 1)]), (symmetry_number, [lists, (2, 0, 1)]),
+        (symmetry_at, [lists, 3]), (positions, [[[(0, 1)], [(0, 1)]], (1, 0)]),
+    ]
+
+
+def spoil(answer):
+    """Change each list in an answer, inner lists too."""
+    if type(answer) in (list, tuple):
+        for item in answer:
+            spoil(item)
+    if type(answer) is list:
+        answer.append("more")
+        answer.reverse()
 
 
 def plain(argument):
@@ -57,9 +85,7 @@ class ArgumentsTest(unittest.TestCase):
                 with self.subTest(kind=name, function=function.__name__):
                     answer = function(*arguments)
                     expected = copy.deepcopy(answer)
-                    if type(answer) is list:
-                        answer.append("more")
-                        answer.reverse()
+                    spoil(answer)
                     self.assertEqual(function(*arguments), expected)
 
     def test_lists_of_the_kind_are_not_returned(self):
@@ -70,7 +96,7 @@ class ArgumentsTest(unittest.TestCase):
                     self.assertFalse(type(answer) is list and answer is given)
 
     def test_truth_values(self):
-        asked = (has_shape, is_of_kind, holds, is_renaming, is_symmetry)
+        asked = (has_shape, is_of_kind, holds, is_renaming, is_symmetry, is_least)
         for kind in sample_kinds().values():
             for function, arguments in calls(kind, random.Random(23)):
                 self.assertEqual(type(function(*arguments)) is bool, function in asked)
