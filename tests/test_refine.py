@@ -46,6 +46,32 @@ class CellsTest(unittest.TestCase):
                 with self.subTest(relation=relation, structure=structure):
                     self.check(kind, structure)
 
+    def test_the_order_of_the_colours_in_a_place(self):
+        # Only where the relation is not symmetric may the order of the colours of a place count.
+        chance = random.Random(65)
+        colour = ("colour", 1, 3, False)
+        for relation in [("turn", 3, 2, False), BLOCK]:
+            kind = Kind([colour, relation], [])
+            for _ in range(200):
+                size = chance.randrange(4, 7)
+                chosen = [tuple(sorted(chance.sample(range(size), 3))) for _ in range(3)]
+                if not relation[3]:
+                    chosen = [tuple(chance.sample(place, 3)) for place in chosen]
+                structure = structure_of(
+                    kind, size, lambda name, place: chance.randrange(3) if name == "colour" else int(place in chosen)
+                )
+                with self.subTest(relation=relation, structure=structure):
+                    self.check(kind, structure)
+
+    def test_the_order_of_others_tells_points_apart(self):
+        kind = Kind([("colour", 1, 3, False), ("turn", 3, 2, False)], [])
+        chosen = [(2, 1, 3), (3, 0, 2)]
+        colours = [2, 2, 1, 0]
+        structure = structure_of(
+            kind, 4, lambda name, place: colours[place[0]] if name == "colour" else int(place in chosen)
+        )
+        self.assertEqual(cells(kind, structure), [3, 2, 1, 0])
+
     def test_a_path(self):
         kind = Kind([EDGE], [])
         path = structure_of(kind, 7, lambda name, place: int(place[1] - place[0] == 1))
