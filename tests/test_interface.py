@@ -26,6 +26,23 @@ FUNCTIONS = {
     "refine": ["cells(kind, structure)"],
     "matching": ["match(kind, one, other)"],
     "counting": ["orbit_count(relations, size)"],
+    "tokens": ["tokenize(text)"],
+    "census": ["census(kind, size)", "labelled(kind, size)"],
+    "obstructions": ["is_obstruction(kind, structure)", "obstructions(kind, size)", "offending(kind, structure)"],
+    "walks": ["find(kind, paper, structure)", "same(kind, paper, one, other)", "deck(kind, paper, structure)"],
+    "profiles": [
+        "occurrences(kind, structure, small)", "profile(kind, paper, structure, size)",
+        "embedding(kind, small, structure)", "telling(kind, one, other)",
+    ],
+    "parts": [
+        "largest_part(kind, structure)", "joins(kind, structure, one, other)",
+        "with_deck(kind, paper, size, numbers)",
+    ],
+    "listing": [
+        "all_structures(kind, size)", "children(kind, structure)", "first(kind, size)", "following(kind, structure)",
+    ],
+    "orbits": ["point_orbits(kind, structure)", "kept_count(kind, size, renaming)", "class_count(kind, size)"],
+    "plain": ["plain_census(kind, size)", "plain_symmetries(kind, structure)", "plain_classes(kind, size)"],
 }
 CLASSES = {
     "errors": [
@@ -33,6 +50,7 @@ CLASSES = {
         "TooManyLayers(count)", "InvalidPaper(line)",
     ],
     "kinds": ["Kind(relations, sentences)"],
+    "papers": ["Item(structure, chain, steps)", "Paper(levels)"],
 }
 
 

@@ -178,12 +178,13 @@ class LanguageTest(unittest.TestCase):
         allowed = {name: takers for name in ["zip", "enumerate", "range", "map", "items", "keys", "values"]}
         allowed["reversed"] = takers
         allowed["range"] = takers | {"reversed", "permutations", "combinations", "product", "min", "max", "len"}
-        allowed.update({name: takers - {"dict", "enumerate", "zip"} for name in LIBRARY["itertools"]})
         for name, text in texts().items():
+            here = dict(allowed)
+            here.update({word: loops | {"list", "tuple", "sorted"} for module, word in imported(text) if module == "itertools"})
             for call, around in consumers(text):
                 called = call.func.attr if isinstance(call.func, ast.Attribute) else call.func.id
-                if called in allowed:
-                    self.assertIn(around, allowed[called], (name, called))
+                if called in here:
+                    self.assertIn(around, here[called], (name, called))
 
     def test_sets_only_where_they_may_stand(self):
         for name, text in texts().items():

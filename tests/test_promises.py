@@ -4,54 +4,16 @@ import copy
 import random
 import unittest
 
-from definitions import BLOCK, EDGE, belongs, sample_kinds, satisfies, says, some_structure
-from oneofeach.counting import orbit_count
+from calls import ASKING, all_calls
+from definitions import BLOCK, EDGE, belongs, satisfies, says, some_structure
 from oneofeach.errors import TooManyLayers
-from oneofeach.group import order, positions, symmetry_at, symmetry_number
 from oneofeach.kinds import Kind
-from oneofeach.least import chain, is_least, least, plain_least, symmetries
-from oneofeach.matching import match
-from oneofeach.places import places
-from oneofeach.refine import cells
-from oneofeach.renamings import followed, inverted, is_renaming, is_symmetry, renamed
-from oneofeach.structures import (
-    count_layers, extensions, has_shape, holds, is_of_kind, layers, part, value,
-)
+from oneofeach.papers import Item, Paper
+from oneofeach.renamings import renamed
+from oneofeach.structures import count_layers, extensions, holds, is_of_kind, layers, part, value
+from test_interface import FUNCTIONS
 
 TRIANGLE = ("and", says("edge", (0, 1), 1), ("and", says("edge", (1, 2), 1), says("edge", (0, 2), 1)))
-
-
-def calls(kind, chance):
-    """Functions with arguments of each kind of value, for structures with 3 points."""
-    structure = some_structure(kind, 3, chance)
-    found = [
-        (has_shape, [kind, structure]), (is_of_kind, [kind, structure]), (part, [kind, structure, [2, 0]]),
-        (holds, [kind, structure, (2, ("true",))]), (count_layers, [kind, 3]),
-        (is_renaming, [(0, 2, 1), 3]), (inverted, [(1, 2, 0)]), (followed, [(1, 2, 0), (0, 2, 1)]),
-        (renamed, [kind, structure, (1, 2, 0)]), (is_symmetry, [kind, structure, (1, 2, 0)]),
-    ]
-    found.extend(calls_of_classes(kind, structure))
-    for name, arity, values, symmetric in kind.relations:
-        found.append((places, [(name, arity, values, symmetric), 3]))
-        found.append((value, [kind, structure, name, (2, 0, 1)[:arity]]))
-    for point in range(3):
-        if count_layers(kind, point) <= 4096:
-            found.append((layers, [kind, point]))
-            if belongs(kind, structure[:point]):
-                found.append((extensions, [kind, structure[:point]]))
-    return found
-
-
-def calls_of_classes(kind, structure):
-    """Functions about least structures, symmetries, cells, matches and counts with arguments."""
-    lists = [[(0, 1, 2), (1, 2, 0), (2, 1, 0)], [(0, 1, 2), (0, 2, 1)], [(0, 1, 2)]]
-    return [
-        (plain_least, [kind, structure]), (least, [kind, structure]), (is_least, [kind, structure]),
-        (symmetries, [kind, structure]), (chain, [kind, structure]), (cells, [kind, structure]),
-        (match, [kind, structure, renamed(kind, structure, (1, 2, 0))]), (orbit_count, [kind.relations, 3]),
-        (order, [lists]), (positions, [lists, (2, 0, 1)]), (symmetry_number, [lists, (2, 0, 1)]),
-        (symmetry_at, [lists, 3]), (positions, [[[(0, 1)], [(0, 1)]], (1, 0)]),
-    ]
 
 
 def spoil(answer):
@@ -64,42 +26,66 @@ def spoil(answer):
         answer.reverse()
 
 
-def plain(argument):
-    """The argument, or the fields of a kind."""
-    return vars(argument) if isinstance(argument, Kind) else argument
+def lists_in(answer):
+    """All lists in an answer, inner lists too."""
+    inner = [found for each in answer for found in lists_in(each)] if type(answer) in (list, tuple) else []
+    return [answer] + inner if type(answer) is list else inner
+
+
+def shown(argument):
+    """The argument, with dicts of fields for objects."""
+    if isinstance(argument, (Kind, Item, Paper)):
+        return {name: shown(held) for name, held in vars(argument).items()}
+    return [shown(each) for each in argument] if type(argument) is list else argument
 
 
 class ArgumentsTest(unittest.TestCase):
 
+    def test_each_function_is_called(self):
+        called = {(function.__module__, function.__name__) for _, function, _ in all_calls(random.Random(19))}
+        for name, all_listed in FUNCTIONS.items():
+            for listed in all_listed:
+                self.assertIn(("oneofeach." + name, listed.partition("(")[0]), called)
+
     def test_arguments_stay_as_they_were(self):
-        for name, kind in sample_kinds().items():
-            for function, arguments in calls(kind, random.Random(20)):
-                with self.subTest(kind=name, function=function.__name__):
-                    before = copy.deepcopy([plain(argument) for argument in arguments])
-                    function(*arguments)
-                    self.assertEqual([plain(argument) for argument in arguments], before)
+        for name, function, arguments in all_calls(random.Random(20)):
+            with self.subTest(kind=name, function=function.__name__):
+                before = copy.deepcopy(shown(arguments))
+                function(*arguments)
+                self.assertEqual(shown(arguments), before)
 
     def test_equal_questions_have_equal_answers(self):
-        for name, kind in sample_kinds().items():
-            for function, arguments in calls(kind, random.Random(21)):
-                with self.subTest(kind=name, function=function.__name__):
-                    answer = function(*arguments)
-                    expected = copy.deepcopy(answer)
-                    spoil(answer)
-                    self.assertEqual(function(*arguments), expected)
-
-    def test_lists_of_the_kind_are_not_returned(self):
-        for kind in sample_kinds().values():
-            for function, arguments in calls(kind, random.Random(22)):
+        for name, function, arguments in all_calls(random.Random(21)):
+            with self.subTest(kind=name, function=function.__name__):
                 answer = function(*arguments)
-                for given in arguments + [kind.relations, kind.sentences]:
-                    self.assertFalse(type(answer) is list and answer is given)
+                expected = copy.deepcopy(answer)
+                spoil(answer)
+                self.assertEqual(function(*arguments), expected)
+
+    def test_no_list_stands_twice_in_an_answer(self):
+        for name, function, arguments in all_calls(random.Random(22)):
+            with self.subTest(kind=name, function=function.__name__):
+                found = lists_in(function(*arguments))
+                self.assertEqual(len(set(id(each) for each in found)), len(found))
+
+    def test_lists_of_the_arguments_are_not_returned(self):
+        for name, function, arguments in all_calls(random.Random(23)):
+            given = lists_in(arguments)
+            for argument in arguments:
+                if isinstance(argument, Kind):
+                    given.extend([argument.relations, argument.sentences])
+                if isinstance(argument, Paper):
+                    given.extend(lists_in(argument.levels))
+                    for item in [item for level in argument.levels for item in level]:
+                        given.extend(lists_in([item.chain, item.steps]))
+            with self.subTest(kind=name, function=function.__name__):
+                for found in lists_in(function(*arguments)):
+                    self.assertFalse(any(found is each for each in given))
 
     def test_truth_values(self):
-        asked = (has_shape, is_of_kind, holds, is_renaming, is_symmetry, is_least)
-        for kind in sample_kinds().values():
-            for function, arguments in calls(kind, random.Random(23)):
-                self.assertEqual(type(function(*arguments)) is bool, function in asked)
+        for name, function, arguments in all_calls(random.Random(24)):
+            with self.subTest(kind=name, function=function.__name__):
+                self.assertEqual(type(function(*arguments)) is bool, function in ASKING)
 
 
 class BoundsTest(unittest.TestCase):
