@@ -51,7 +51,10 @@ def count_alike(lengths, size):
 
 
 def cycles(relation, renaming):
-    """The cycles in which the renaming moves the places of the relation, as lists of places."""
+    """The cycles in which the renaming moves the places of the relation, as lists of places.
+
+    A cycle begins with a place at the first point that any of its places is at.
+    """
     found = []
     seen = set()
     for point in range(len(renaming)):

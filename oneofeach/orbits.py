@@ -45,7 +45,8 @@ def equal_slots(kind, renaming):
     pairs = [[] for _ in renaming]
     for index, relation in enumerate(kind.relations):
         for cycle in cycles(relation, renaming):
-            slots = sorted([slot_of(relation, index, place) for place in cycle])
+            slots = [slot_of(relation, index, place) for place in cycle]
+            # A cycle begins with its first place, so the other slot is never at a later point.
             for slot in slots:
                 pairs[slot[0]].append((slot, slots[0]))
     return pairs

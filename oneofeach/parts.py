@@ -11,7 +11,7 @@ from oneofeach.walks import number_without
 def largest_part(kind, structure):
     """An ascending list of points, as long as possible, on which the part is of the kind."""
     failing = failing_sets(kind, structure)
-    for left_out in range(len(structure) + 1):
+    for left_out in range(len(structure)):
         for points in combinations(range(len(structure)), int(len(structure) - left_out)):
             if not has_one_of(points, failing):
                 return list(points)

@@ -56,6 +56,30 @@ class PointOrbitsTest(unittest.TestCase):
             self.check(kind, structure)
             self.assertEqual(point_orbits(kind, structure), [[0, 1, 2, 3, 4, 5]])
 
+    def test_arcs_that_a_renaming_keeps(self):
+        chance = random.Random(173)
+        kind = Kind([ARC], [])
+        for _ in range(40):
+            size = chance.choice([4, 5, 5, 6])
+            names = chance.sample(range(size), size)
+            arcs = {tuple(chance.sample(range(size), 2)) for _ in range(chance.randrange(1, 4))}
+            for _ in range(size * size):
+                arcs |= {(names[start], names[end]) for start, end in arcs}
+            structure = structure_of(kind, size, lambda name, place: int(place in arcs))
+            with self.subTest(structure=structure):
+                self.check(kind, structure)
+
+    def test_points_that_no_single_renaming_of_a_chain_may_reach(self):
+        kind = Kind([ARC], [])
+        cases = [
+            ([(0, 3), (1, 5), (4, 2)], [[0, 1, 4], [2, 3, 5]]),
+            ([(2, 0), (3, 1), (4, 1), (5, 0)], [[0, 1], [2, 3, 4, 5]]),
+            ([(0, 3), (0, 4), (2, 1), (2, 5)], [[0, 2], [1, 3, 4, 5]]),
+        ]
+        for arcs, orbits in cases:
+            structure = structure_of(kind, 6, lambda name, place: int(place in arcs))
+            self.assertEqual(point_orbits(kind, structure), orbits)
+
     def test_seven_points(self):
         kind = Kind([EDGE], [])
         path = structure_of(kind, 7, lambda name, place: int(place[1] - place[0] == 1))
