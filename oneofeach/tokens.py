@@ -12,6 +12,14 @@ MOST_DIGITS = 9
 
 def tokenize(text):
     """The list of the tokens of a text, as tuples (kind, value, place)."""
+    tokens = tokens_to_fault(text)
+    if tokens[-1][0] == "fault":
+        raise SyntaxFault(tokens[-1][2])
+    return tokens
+
+
+def tokens_to_fault(text):
+    """The tokens up to the first fault of tokens, which is shown as a last token ("fault", "", place)."""
     tokens = []
     place = 0
     while place < len(text):
@@ -19,6 +27,8 @@ def tokenize(text):
             place += 1
         else:
             end = end_of_token(text, place)
+            if end == place:
+                return tokens + [("fault", "", place)]
             tokens.append(token_of(text[place:end], place))
             place = end
     tokens.append(("end", "", place))
@@ -26,7 +36,7 @@ def tokenize(text):
 
 
 def end_of_token(text, place):
-    """The place behind the token at the place. Raises SyntaxFault if no token stands there."""
+    """The place behind the token at the place, or the place itself if no token stands there."""
     if text[place] in NAME_CHARACTERS:
         return end_of_run(text, place)
     if text[place] == "\n":
@@ -34,17 +44,15 @@ def end_of_token(text, place):
     for sign in SIGNS:
         if text.startswith(sign, place):
             return place + len(sign)
-    raise SyntaxFault(place)
+    return place
 
 
 def end_of_run(text, place):
-    """The place behind the name, the word or the number at the place, or SyntaxFault."""
+    """The place behind the name, the word or the number at the place, or the place itself."""
     end = place
     while end < len(text) and text[end] in NAME_CHARACTERS:
         end += 1
-    if text[place] in SMALL_LETTERS or is_number(text[place:end]):
-        return end
-    raise SyntaxFault(place)
+    return end if text[place] in SMALL_LETTERS or is_number(text[place:end]) else place
 
 
 def is_number(run):

@@ -1,10 +1,13 @@
 """What DOC.md says of censuses and papers, word by word, for the tests to compare with."""
 
+from functools import lru_cache
 from itertools import combinations, product
 from math import factorial, prod
 
 from classes import all_renamed, other_chain
-from definitions import belongs, every_structure, listed_layers, part_on, renamed_by, sample_kinds, says
+from definitions import (
+    belongs, every_structure, listed_layers, listed_places, part_on, renamed_by, sample_kinds, says,
+)
 from oneofeach.kinds import Kind
 from oneofeach.papers import Item, Paper
 
@@ -82,19 +85,86 @@ def step_by_hand(kind, structure, layer, classes, shown, chance):
 
 def is_accepted(kind, paper):
     """Point 6.2."""
-    if len(paper.levels[0]) != 1:
-        return False
-    for size, level in enumerate(paper.levels):
+    return reason_by_hand(kind, paper) is None
+
+
+def is_accepted_short(kind, paper):
+    """Point 17.1."""
+    return reason_by_hand(kind, paper, short=True) is None
+
+
+def reason_by_hand(kind, paper, short=False):
+    """Point 18.1; for a short paper what is the same there, with the changes of point 17.1."""
+    levels = paper.levels
+    if len(levels[0]) != 1:
+        return (0, 0, "start")
+    for size, level in enumerate(levels):
+        for number, item in enumerate(level):
+            reason = reason_of_item(kind, item, size)
+            if reason:
+                return (size, number, reason)
+    for size in range(1, len(levels)):
+        for number, item in enumerate(levels[size - 1]):
+            found = list(kept_extensions(kind, item.structure))
+            if [step[0] for step in item.steps] != (least_by_hand(kind, item) if short else found):
+                return (size - 1, number, "layers")
+            if not all(fits(kind, item.structure, step, levels[size]) for step in item.steps):
+                return (size - 1, number, "step")
+        before = sum(weight_of(item) * len(kept_extensions(kind, item.structure)) for item in levels[size - 1])
+        if sum(weight_of(item) for item in levels[size]) != before:
+            return (size, 0, "sum")
+    for number, item in enumerate(levels[-1]):
+        if item.steps:
+            return (len(levels) - 1, number, "end")
+    return None
+
+
+def too_many_layers(kind, paper):
+    """The number of layers for which TooManyLayers is raised for a paper, or None."""
+    for size, level in enumerate(paper.levels[:-1]):
+        count = prod(relation[2] ** len(listed_places(relation, size)) for relation in kind.relations)
+        if level and count > 4096:
+            return count
+    return None
+
+
+@lru_cache(maxsize=None)
+def kept_extensions(kind, structure):
+    """The listed extensions, kept for the next time."""
+    return tuple(listed_extensions(kind, structure))
+
+
+def made_by(renamings, size):
+    """All renamings of so many points that are made of these, done one after another."""
+    found = {tuple(range(size))}
+    while True:
+        more = {tuple(names[point] for point in before) for before in found for names in renamings} - found
+        if not more:
+            return found
+        found |= more
+
+
+def least_by_hand(kind, item):
+    """Point 17.1: the least layers of the orbits of the extensions, for the chain of the item."""
+    size = len(item.structure)
+    group = made_by([names for row in item.chain for names in row], size)
+    found = []
+    for layer in kept_extensions(kind, item.structure):
+        longer = item.structure + (layer,)
+        if min(renamed_by(kind, longer, names + (size,)) for names in group)[-1] == layer:
+            found.append(layer)
+    return found
+
+
+def shortened_by_hand(kind, paper):
+    """A short paper, of an accepted paper."""
+    levels = []
+    for level in paper.levels[:-1]:
+        levels.append([])
         for item in level:
-            if not is_item(kind, item, size):
-                return False
-            if not has_steps(kind, item, paper.levels[size + 1] if size + 1 < len(paper.levels) else None):
-                return False
-        if size > 0:
-            before = sum(weight_of(item) * len(item.steps) for item in paper.levels[size - 1])
-            if sum(weight_of(item) for item in level) != before:
-                return False
-    return True
+            least = least_by_hand(kind, item)
+            levels[-1].append(Item(item.structure, item.chain, [step for step in item.steps if step[0] in least]))
+    return Paper(levels + paper.levels[-1:])
 
 
 def weight_of(item):
@@ -102,32 +172,30 @@ def weight_of(item):
     return factorial(len(item.structure)) // prod(len(row) for row in item.chain)
 
 
-def is_item(kind, item, size):
-    """Conditions 1 and 2 of point 6.2."""
-    if len(item.structure) != size or not belongs(kind, item.structure) or len(item.chain) != size:
-        return False
+def reason_of_item(kind, item, size):
+    """Conditions 1 and 2 of point 6.2: the word for what does not hold, or None."""
+    if len(item.structure) != size or not belongs(kind, item.structure):
+        return "structure"
+    if len(item.chain) != size:
+        return "chain"
     for point, row in enumerate(item.chain):
         kept = tuple(range(point))
-        if not row or len(set(names[point] for names in row)) != len(row):
-            return False
+        if not row or len(set(names[point:point + 1] for names in row)) != len(row):
+            return "chain"
         for names in row:
-            if names[:point] != kept or renamed_by(kind, item.structure, names) != item.structure:
-                return False
-    return factorial(size) % prod(len(row) for row in item.chain) == 0
+            if sorted(names) != list(range(size)) or names[:point] != kept:
+                return "chain"
+            if renamed_by(kind, item.structure, names) != item.structure:
+                return "chain"
+    return "weight" if factorial(size) % prod(len(row) for row in item.chain) else None
 
 
-def has_steps(kind, item, following):
-    """Condition 3 of point 6.2; following is the list of the next size, or None."""
-    if following is None:
-        return item.steps == []
-    if [step[0] for step in item.steps] != listed_extensions(kind, item.structure):
+def fits(kind, structure, step, following):
+    """Condition 3 of point 6.2: whether the number and the renaming of a step are right."""
+    layer, number, names = step
+    if number not in range(len(following)) or sorted(names) != list(range(len(structure) + 1)):
         return False
-    for layer, number, names in item.steps:
-        if not 0 <= number < len(following):
-            return False
-        if renamed_by(kind, item.structure + (layer,), names) != following[number].structure:
-            return False
-    return True
+    return renamed_by(kind, structure + (layer,), names) == following[number].structure
 
 
 def parts_without_one(kind, structure):

@@ -5,7 +5,8 @@ import inspect
 import unittest
 
 FUNCTIONS = {
-    "sentences": ["atoms_of(formula)"],
+    "sentences": ["read_sentence(text)", "write_sentence(sentence)", "atoms_of(formula)"],
+    "kinds": ["read_kind(text)", "write_kind(kind)", "ready(name)"],
     "places": ["places(relation, point)"],
     "structures": [
         "has_shape(kind, structure)", "value(kind, structure, name, points)", "part(kind, structure, points)",
@@ -42,6 +43,22 @@ FUNCTIONS = {
         "all_structures(kind, size)", "children(kind, structure)", "first(kind, size)", "following(kind, structure)",
     ],
     "orbits": ["point_orbits(kind, structure)", "kept_count(kind, size, renaming)", "class_count(kind, size)"],
+    "papers": ["write_up(kind, size)"],
+    "checker": ["weight(item)", "accepts(kind, paper)"],
+    "reasons": ["why_refused(kind, paper)"],
+    "short": [
+        "shorten(kind, paper)", "lengthen(kind, paper)", "accepts_short(kind, paper)",
+        "find_short(kind, paper, structure)",
+    ],
+    "forbidding": ["forbid(relations, structures)", "by_obstructions(kind)"],
+    "numbering": ["number_of(kind, paper, structure)", "structure_at(kind, paper, size, number)"],
+    "translation": [
+        "translated(translation, structure)", "class_map(translation, paper, target_paper, size)",
+    ],
+    "written": [
+        "write_structure(structure)", "read_structure(text)", "write_paper(paper)", "read_paper(text)",
+        "audit(kind, text)",
+    ],
     "plain": ["plain_census(kind, size)", "plain_symmetries(kind, structure)", "plain_classes(kind, size)"],
 }
 CLASSES = {
@@ -51,6 +68,7 @@ CLASSES = {
     ],
     "kinds": ["Kind(relations, sentences)"],
     "papers": ["Item(structure, chain, steps)", "Paper(levels)"],
+    "translation": ["Translation(source, target, rules)"],
 }
 
 
